@@ -14,7 +14,6 @@ const several = "load('m', 'a', b = 'c')\nx, y = a, b\ndef f(p, q = [x for x in 
 
 // spoil writes over all that a list has, spare room too.
 func spoil[T any](l []T, by T) {
-	l = append(l, by)
 	for i := range l[:cap(l)] {
 		l[:cap(l)][i] = by
 	}
