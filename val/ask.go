@@ -85,6 +85,8 @@ func holds(v Value) bool {
 		return bool(x)
 	case *whole:
 		return x.n.Cmp(num.Num{}) != 0
+	case hollow:
+		return !x.Empty()
 	}
 	n, is := size(v)
 	return !is || n > 0

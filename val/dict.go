@@ -6,7 +6,7 @@ import "smithy/api"
 type Dict struct {
 	entries []entry
 	places  map[string]int // of each key that is there, by its mark, where in entries it stands
-	frozen  bool
+	lock
 }
 
 // entry is a key with its value. One that was taken out stays as a gap, so that those behind it keep their places.
@@ -81,7 +81,7 @@ func (d *Dict) change(k Value) (string, error) {
 	if err != nil {
 		return "", err
 	}
-	if d.frozen {
+	if d.shut() {
 		return "", api.ErrDynamic
 	}
 	return mark, nil

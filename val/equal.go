@@ -12,6 +12,21 @@ func Equal(a, b Value) (bool, error) {
 	return h.equal(a, b, 0)
 }
 
+// First is the place of the first of l that is Equal to x, -1 if there is none: api.ErrLimit as Equal, where the pairs of all that it comes to count together.
+func First(l []Value, x Value) (int, error) {
+	h := &held{}
+	for i, v := range l {
+		is, err := h.equal(v, x, 0)
+		if err != nil {
+			return 0, err
+		}
+		if is {
+			return i, nil
+		}
+	}
+	return -1, nil
+}
+
 // held holds values against each other, and counts the pairs to which it comes.
 type held struct{ pairs int }
 
@@ -92,6 +107,9 @@ func alike(a, b Value) bool {
 	if x, is := a.(*whole); is {
 		y, is := b.(*whole)
 		return is && x.n.Cmp(y.n) == 0
+	}
+	if x, is := a.(likened); is {
+		return x.Like(b)
 	}
 	return theSame(a, b)
 }

@@ -58,11 +58,6 @@ func (d *Dict) values() []Value {
 func Frozen(v Value) bool { return stays(v) }
 
 func stays(v Value) bool {
-	switch x := v.(type) {
-	case *List:
-		return x.frozen
-	case *Dict:
-		return x.frozen
-	}
-	return true
+	k := lockOf(v)
+	return k == nil || k.frozen
 }

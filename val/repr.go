@@ -51,6 +51,8 @@ func (w *writer) value(v Value, within int) {
 			return
 		}
 		w.holder(x, within+1)
+	case spoken:
+		w.put(x.Repr())
 	}
 }
 
